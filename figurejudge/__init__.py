@@ -1,0 +1,1 @@
+"""Figurejudge: sayings about rows that never end."""

@@ -1,0 +1,114 @@
+"""Point 1: what is handed in stays as it was, and what is told is the asker's own and the same each time."""
+
+import copy
+import unittest
+
+from figurejudge.errors import JudgeError
+from figurejudge.figures import all_letters, figures_of, is_ahead, letters_of, number_of, numbers_of
+from figurejudge.rows import look_world, sign_at
+from figurejudge.sayings import free_names, look_saying, part_at
+from samples import BASES, says, term, world_of
+
+
+def nested():
+    return ("and", ("some", "n", says("m", "n")), ("not", ("sign", "A", term(3, "k"), 2)))
+
+
+def broken_world(base):
+    world = world_of(base)
+    world[1]["F"] = ((1, 2), ((1,) * base, (0,) * base))
+    return world
+
+
+def calls():
+    """Pairs (function, arguments made anew)."""
+    for base in BASES:
+        yield figures_of, (base, 1234)
+        yield number_of, (base, [1, 0, 1, 1, 0])
+        yield all_letters, (base, 2)
+        yield letters_of, (base, (17, 0, 90))
+        yield numbers_of, (base, 2, [3, 1, 0, 2, 0])
+        yield is_ahead, (base, (4, 5), (6, 1))
+        yield look_world, (world_of(base),)
+        yield look_world, (broken_world(base),)
+        yield sign_at, (world_of(base), "T", 1234)
+        yield free_names, (nested(),)
+        yield look_saying, (world_of(base), nested())
+        yield look_saying, ((base, {}), nested())
+        yield part_at, (nested(), (1, 0))
+
+
+def told_by(function, given):
+    """What a call tells, or the refusal with its fields."""
+    try:
+        return function(*given)
+    except JudgeError as error:
+        return type(error).__name__, vars(error)
+
+
+class KeptTest(unittest.TestCase):
+    def test_what_is_handed_in_stays(self):
+        for function, given in calls():
+            before = copy.deepcopy(given)
+            told_by(function, given)
+            self.assertEqual(given, before, function.__name__)
+            worlds = [one for one in given if isinstance(one, tuple) and len(one) == 2 and isinstance(one[1], dict)]
+            for one in worlds:
+                self.assertEqual(list(one[1]), list(before[given.index(one)][1]))
+
+    def test_asked_again_the_same(self):
+        for function, given in calls():
+            first = copy.deepcopy(told_by(function, given))
+            for again in range(3):
+                self.assertEqual(told_by(function, given), first, function.__name__)
+
+    def test_a_told_list_is_the_askers_own(self):
+        for function, given in calls():
+            told = told_by(function, given)
+            if isinstance(told, list):
+                before = list(told)
+                told.append("more")
+                told[0] = "other"
+                told.reverse()
+                self.assertEqual(function(*given), before)
+                self.assertIsNot(function(*given), function(*given))
+
+    def test_empty_lists_are_the_askers_own(self):
+        for base in BASES:
+            figures_of(base, 0).append(1)
+            letters_of(base, ()).append(1)
+            letters_of(base, (0, 0)).append(1)
+            self.assertEqual(figures_of(base, 0), [])
+            self.assertEqual(letters_of(base, ()), [])
+            self.assertEqual(letters_of(base, (0, 0)), [])
+            self.assertEqual(figures_of(base, base), [0, 1])
+
+    def test_a_list_changed_behind_the_call_changes_nothing(self):
+        for base in BASES:
+            some = [1, 1, 0]
+            number = number_of(base, some)
+            numbers = numbers_of(base, 1, some)
+            some[0] = 0
+            self.assertEqual(number, base + 1)
+            self.assertEqual(numbers, (base + 1,))
+            self.assertEqual(number_of(base, some), base)
+
+    def test_a_world_changed_behind_the_call_is_read_anew(self):
+        for base in BASES:
+            world = world_of(base)
+            look_world(world)
+            look_saying(world, ("sign", "F", term(0), 1))
+            self.assertEqual(sign_at(world, "F", 5), 7)
+            world[1]["F"] = ((2,), ((0,) * base,))
+            self.assertEqual(sign_at(world, "F", 5), 2)
+            world[1]["F"] = ((2,), ())
+            with self.assertRaises(JudgeError):
+                look_world(world)
+            world[1].pop("F")
+            look_world(world)
+            with self.assertRaises(JudgeError):
+                look_saying(world, ("sign", "F", term(0), 1))
+
+
+if __name__ == "__main__":
+    unittest.main()
