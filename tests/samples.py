@@ -1,5 +1,6 @@
 """Inputs that several tests share: numbers, rows, worlds and sayings. Chance is seeded, so each run is the same."""
 
+import itertools
 import random
 
 BASES = (2, 3, 4)
@@ -55,6 +56,93 @@ def world_of(base):
     return base, {"T": sum_row(base, 3), "A": ones_row(base), "LAS": last_row(base), "F": flat_row(base)}
 
 
+def random_row(chance, base, rooms):
+    """A right row: noughts lead to rooms of like sign, all else anywhere."""
+    signs = [chance.randrange(10 if rooms > 4 else 3) for room in range(rooms)]
+    moves = []
+    for sign in signs:
+        like = [room for room in range(rooms) if signs[room] == sign]
+        moves.append((chance.choice(like),) + tuple(chance.randrange(rooms) for figure in range(base - 1)))
+    return tuple(signs), tuple(moves)
+
+
+def random_world(chance, base, rooms=6):
+    """A right world of the rows A and B, of at most so many rooms."""
+    return base, {name: random_row(chance, base, chance.randint(1, rooms)) for name in ("A", "B")}
+
+
+def sign_by_hand(base, row, number):
+    """The sign of a row at a number, by one division a figure."""
+    signs, moves = row
+    room = 0
+    while number:
+        number, figure = divmod(number, base)
+        room = moves[room][figure]
+    return signs[room]
+
+
+def some_numbers(chance, base, many):
+    """So many numbers for each of several sizes: small, 0, some forty and some hundred figures, and unlike ones."""
+    sizes = [(1,), (2,), (3,), (5,), (40,), (42,), (130,), (0, 40), (1, 130), (40, 130)]
+    tuples = [(0,) * many]
+    for size in sizes * 4:
+        tuples.append(tuple(chance.randrange(base ** chance.choice(size)) for spot in range(many)))
+    return tuples
+
+
+def random_machine(chance, base, names, rooms):
+    """A machine of these names: noughts lead to rooms of like yes, all else anywhere."""
+    yes = [chance.random() < 0.4 for room in range(rooms)]
+    moves = []
+    for at in yes:
+        like = [room for room in range(rooms) if yes[room] == at]
+        others = [chance.randrange(rooms) for letter in range(base ** len(names) - 1)]
+        moves.append((chance.choice(like),) + tuple(others))
+    return tuple(names), tuple(yes), tuple(moves)
+
+
+def letters_by_hand(base, many):
+    return list(itertools.product(range(base), repeat=many))
+
+
+def grown_by_hand(first, letters, onward):
+    """Pairs of the rooms that come up and the numbers of those to which their letters lead."""
+    rooms = [first]
+    moves = []
+    for room in rooms:
+        leads = [onward(room, letter) for letter in letters]
+        for to in leads:
+            if to not in rooms:
+                rooms.append(to)
+        moves.append(leads)
+    return rooms, tuple(tuple(rooms.index(to) for to in leads) for leads in moves)
+
+
+def worth_by_hand(term, values):
+    return sum([values[name] for name, times in term[1] for again in range(times)], term[0])
+
+
+def holds_by_hand(world, saying, values, most):
+    """As point 11 says it."""
+    word = saying[0]
+    if word in ("some", "each"):
+        ask = any if word == "some" else all
+        return ask(holds_by_hand(world, saying[2], {**values, saying[1]: number}, most) for number in range(most))
+    if word == "not":
+        return not holds_by_hand(world, saying[1], values, most)
+    if word in ("and", "or"):
+        ask = any if word == "or" else all
+        return ask([holds_by_hand(world, part, values, most) for part in saying[1:]])
+    base, rows = world
+    if word == "sign":
+        return sign_by_hand(base, rows[saying[1]], worth_by_hand(saying[2], values)) == saying[3]
+    if word == "alike":
+        return (sign_by_hand(base, rows[saying[1]], worth_by_hand(saying[2], values))
+                == sign_by_hand(base, rows[saying[3]], worth_by_hand(saying[4], values)))
+    left, right = worth_by_hand(saying[1], values), worth_by_hand(saying[2], values)
+    return left == right if word == "same" else left < right
+
+
 def term(number, *names):
     """A term with these names, their times told by their order."""
     return number, tuple((name, 1 + spot) for spot, name in enumerate(sorted(names)))
@@ -66,7 +154,13 @@ def says(*names):
 
 
 def random_term(chance, names):
-    return term(chance.randrange(100), *chance.sample(names, chance.randrange(4)))
+    return term(chance.randrange(100), *chance.sample(names, chance.randrange(min(4, len(names) + 1))))
+
+
+def wide_term(chance, names, most=99):
+    """A term of at most three of the names with any times."""
+    own = sorted(chance.sample(names, chance.randrange(min(4, len(names) + 1))))
+    return chance.randint(0, most), tuple((name, chance.randint(1, 9)) for name in own)
 
 
 def random_atom(chance, names, rows):

@@ -1,13 +1,18 @@
 """Point 1: what is handed in stays as it was, and what is told is the asker's own and the same each time."""
 
 import copy
+import random
 import unittest
 
+from figurejudge.atoms import atom_of
 from figurejudge.errors import JudgeError
 from figurejudge.figures import all_letters, figures_of, is_ahead, letters_of, number_of, numbers_of
+from figurejudge.joined import both_of, either_of, turned_no
+from figurejudge.machines import grown_from, says_yes
+from figurejudge.plain import holds_plainly, worth_of
 from figurejudge.rows import look_world, sign_at
 from figurejudge.sayings import free_names, look_saying, part_at
-from samples import BASES, says, term, world_of
+from samples import BASES, random_machine, says, term, world_of
 
 
 def nested():
@@ -20,22 +25,47 @@ def broken_world(base):
     return world
 
 
+def machine_for(base, *names):
+    return random_machine(random.Random(base), base, names, 6)
+
+
 def calls():
     """Pairs (function, arguments made anew)."""
     for base in BASES:
-        yield figures_of, (base, 1234)
-        yield number_of, (base, [1, 0, 1, 1, 0])
-        yield all_letters, (base, 2)
-        yield letters_of, (base, (17, 0, 90))
-        yield numbers_of, (base, 2, [3, 1, 0, 2, 0])
-        yield is_ahead, (base, (4, 5), (6, 1))
-        yield look_world, (world_of(base),)
-        yield look_world, (broken_world(base),)
-        yield sign_at, (world_of(base), "T", 1234)
-        yield free_names, (nested(),)
-        yield look_saying, (world_of(base), nested())
-        yield look_saying, ((base, {}), nested())
-        yield part_at, (nested(), (1, 0))
+        yield from first_calls(base)
+        yield from machine_calls(base)
+
+
+def first_calls(base):
+    yield figures_of, (base, 1234)
+    yield number_of, (base, [1, 0, 1, 1, 0])
+    yield all_letters, (base, 2)
+    yield letters_of, (base, (17, 0, 90))
+    yield numbers_of, (base, 2, [3, 1, 0, 2, 0])
+    yield is_ahead, (base, (4, 5), (6, 1))
+    yield look_world, (world_of(base),)
+    yield look_world, (broken_world(base),)
+    yield sign_at, (world_of(base), "T", 1234)
+    yield free_names, (nested(),)
+    yield look_saying, (world_of(base), nested())
+    yield look_saying, ((base, {}), nested())
+    yield part_at, (nested(), (1, 0))
+
+
+def machine_calls(base):
+    yield worth_of, (term(3, "m", "n"), {"n": 4, "m": 9, "z": 1})
+    yield holds_plainly, (world_of(base), nested(), {"n": 99, "m": 4, "k": 2}, 5)
+    yield holds_plainly, (world_of(base), ("each", "k", ("some", "m", nested())), {"n": 99, "m": 4, "k": 2}, 3)
+    yield says_yes, (base, machine_for(base, "m", "n"), (12, 7))
+    yield grown_from, (0, 3, lambda room, letter: (room + letter) % 5, lambda room: room == 1)
+    yield grown_from, (0, 3, lambda room, letter: (room + letter) % 5, lambda room: room == 1, 4)
+    for saying in (("same", term(3, "m"), term(0, "n")), ("less", term(3, "m"), term(0, "n")),
+                   ("sign", "T", term(2, "m", "n"), 1), ("alike", "T", term(0, "m"), "A", term(1, "m"))):
+        yield atom_of, (world_of(base), saying)
+        yield atom_of, (world_of(base), saying, 1)
+    yield turned_no, (machine_for(base, "m", "n"),)
+    yield both_of, (base, machine_for(base, "m", "n"), machine_for(base, "k"))
+    yield either_of, (base, machine_for(base, "m", "n"), machine_for(base, "n"), 7)
 
 
 def told_by(function, given):
@@ -55,6 +85,12 @@ class KeptTest(unittest.TestCase):
             worlds = [one for one in given if isinstance(one, tuple) and len(one) == 2 and isinstance(one[1], dict)]
             for one in worlds:
                 self.assertEqual(list(one[1]), list(before[given.index(one)][1]))
+
+    def test_a_dict_of_numbers_stays_in_its_order(self):
+        values = {"n": 99, "m": 4, "k": 2}
+        holds_plainly(world_of(2), ("some", "m", ("each", "z", nested())), values, 4)
+        worth_of(term(3, "k", "m"), values)
+        self.assertEqual(list(values.items()), [("n", 99), ("m", 4), ("k", 2)])
 
     def test_asked_again_the_same(self):
         for function, given in calls():

@@ -139,6 +139,13 @@ class FormsTest(unittest.TestCase):
                 self.assertLessEqual(len(node.bases), 1, where)
                 self.assertTrue(all(isinstance(part, (ast.FunctionDef, ast.Expr)) for part in node.body), where)
 
+    def test_no_two_lambdas_with_the_same_parameters_on_one_line(self):
+        seen = set()
+        for where, node in nodes(ast.Lambda):
+            key = (where, tuple(arg.arg for arg in node.args.args))
+            self.assertNotIn(key, seen)
+            seen.add(key)
+
     def test_is_stands_beside_none_true_false(self):
         for where, node in nodes(ast.Compare):
             for word, side in zip(node.ops, node.comparators):
@@ -161,6 +168,14 @@ class NamesTest(unittest.TestCase):
                     self.assertRegex(name, "^[A-Za-z][A-Za-z0-9_]*$", path.name)
                     self.assertFalse(hasattr(builtins, name) or name in BARRED_NAMES, (path.name, name))
                     self.assertNotIn(name, BARRED_EVERYWHERE, path.name)
+
+    def test_no_local_is_called_like_an_import_or_a_class(self):
+        for path, tree in trees():
+            taken = {alias.asname or alias.name for node in drawn_from(tree) for alias in node.names}
+            taken |= {node.name for node in tree.body if isinstance(node, ast.ClassDef)}
+            bound = [node.id for node in ast.walk(tree) if isinstance(node, ast.Name) and isinstance(node.ctx, ast.Store)]
+            bound += [node.arg for node in ast.walk(tree) if isinstance(node, ast.arg)]
+            self.assertEqual(taken & set(bound), set(), path.name)
 
     def test_pythons_own_names_that_are_read(self):
         for where, node in nodes(ast.Name):
