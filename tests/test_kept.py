@@ -7,11 +7,15 @@ import unittest
 from figurejudge.atoms import atom_of
 from figurejudge.errors import JudgeError
 from figurejudge.figures import all_letters, figures_of, is_ahead, letters_of, number_of, numbers_of
+from figurejudge.hidden import each_of, sets_of, some_of
 from figurejudge.joined import both_of, either_of, turned_no
 from figurejudge.machines import grown_from, says_yes
+from figurejudge.maker import made_of
+from figurejudge.papers import paper_holds, paper_of
 from figurejudge.plain import holds_plainly, worth_of
 from figurejudge.rows import look_world, sign_at
 from figurejudge.sayings import free_names, look_saying, part_at
+from figurejudge.thin import parting_of, thinned
 from samples import BASES, random_machine, says, term, world_of
 
 
@@ -34,6 +38,7 @@ def calls():
     for base in BASES:
         yield from first_calls(base)
         yield from machine_calls(base)
+        yield from maker_calls(base)
 
 
 def first_calls(base):
@@ -66,6 +71,24 @@ def machine_calls(base):
     yield turned_no, (machine_for(base, "m", "n"),)
     yield both_of, (base, machine_for(base, "m", "n"), machine_for(base, "k"))
     yield either_of, (base, machine_for(base, "m", "n"), machine_for(base, "n"), 7)
+
+
+def maker_calls(base):
+    for function in (sets_of, some_of, each_of):
+        yield function, (base, machine_for(base, "m", "n"), "m")
+        yield function, (base, machine_for(base, "m", "n"), "n", 1)
+    yield some_of, (base, machine_for(base, "m", "n"), "z")
+    yield each_of, (base, machine_for(base, "m", "n"), "z")
+    yield thinned, (machine_for(base, "m", "n"),)
+    for rooms in ((0, 1), (1, 2), (4, 5), (3, 3)):
+        yield parting_of, (machine_for(base, "m", "n"),) + rooms
+    for saying in (nested(), ("not", nested()), ("or", says("m"), says("n")), ("some", "m", says("m", "n")),
+                   ("each", "n", ("less", term(0, "n"), term(4, "m")))):
+        yield made_of, (world_of(base), saying)
+        yield made_of, (world_of(base), saying, 3)
+        yield paper_of, (world_of(base), saying)
+        yield paper_holds, (world_of(base), saying, list(reversed(paper_of(world_of(base), saying))))
+        yield paper_holds, (world_of(base), saying, [])
 
 
 def told_by(function, given):
