@@ -45,14 +45,18 @@ def rows_growth(base, saying, machines):
     return ((0,) + parts[0], onward, lambda row: yes[row[0]] == parts[2](row[1:]))
 
 
-def paper_of(world, saying):
-    """The paper of a not, and, or, some or each, sorted."""
-    machines = machines_of(world, saying)
-    growth = rows_growth(world[0], saying, machines)
+def paper_from(base, saying, machines):
+    """The paper of a not, and, or, some or each, sorted, by the machines of it and its parts."""
+    growth = rows_growth(base, saying, machines)
     many = len(machines[()][2][0])
     # No more tuples come up than rooms did at the saying, and those were let.
     grown = grown_from(growth[0], many, growth[1], growth[2])
     return sorted(grown[0])
+
+
+def paper_of(world, saying):
+    """The paper of a not, and, or, some or each, sorted."""
+    return paper_from(world[0], saying, machines_of(world, saying))
 
 
 def paper_holds(world, saying, paper):

@@ -9,13 +9,17 @@ from figurejudge.errors import JudgeError
 from figurejudge.figures import all_letters, figures_of, is_ahead, letters_of, number_of, numbers_of
 from figurejudge.hidden import each_of, sets_of, some_of
 from figurejudge.joined import both_of, either_of, turned_no
+from figurejudge.judge import counter_of, judged, judged_each, witness_of
 from figurejudge.machines import grown_from, says_yes
 from figurejudge.maker import made_of
+from figurejudge.order import first_of, first_tuples, how_many
 from figurejudge.papers import paper_holds, paper_of
 from figurejudge.plain import holds_plainly, worth_of
 from figurejudge.rows import look_world, sign_at
+from figurejudge.same import compared
 from figurejudge.sayings import free_names, look_saying, part_at
 from figurejudge.thin import parting_of, thinned
+from figurejudge.turned import says_down, turned_about
 from samples import BASES, random_machine, says, term, world_of
 
 
@@ -39,6 +43,7 @@ def calls():
         yield from first_calls(base)
         yield from machine_calls(base)
         yield from maker_calls(base)
+        yield from judge_calls(base)
 
 
 def first_calls(base):
@@ -91,12 +96,41 @@ def maker_calls(base):
         yield paper_holds, (world_of(base), saying, [])
 
 
+def judge_calls(base):
+    world = lambda: world_of(base)
+    n, m = term(0, "n"), term(0, "m")
+    for inside in (("not", ("less", n, n)), ("less", n, term(1, "n")), ("some", "m", ("less", n, m)), ("less", n, term(8)),
+                   ("each", "m", ("or", ("less", n, m), ("not", ("less", n, m))))):
+        yield judged, (world(), ("each", "n", inside))
+        yield judged_each, (world(), ("each", "n", inside))
+        yield witness_of, (world(), inside)
+        yield counter_of, (world(), inside)
+        yield compared, (world(), inside, ("not", ("not", inside)))
+        yield compared, (world(), inside, ("sign", "T", m, 1))
+    machine = lambda: machine_for(base, "m", "n")
+    for many in (0, 1, 20):
+        yield first_tuples, (base, machine(), many)
+        yield how_many, (base, machine(), many)
+    yield first_of, (base, machine())
+    yield first_of, (base, (("n",), (False,), ((0,) * base,)))
+    yield turned_about, (machine(),)
+    yield turned_about, (turned_about(machine()),)
+    yield says_down, (base, turned_about(machine()), (12, 7))
+
+
 def told_by(function, given):
     """What a call tells, or the refusal with its fields."""
     try:
         return function(*given)
     except JudgeError as error:
         return type(error).__name__, vars(error)
+
+
+def spoil(told):
+    """Change a told list in all ways."""
+    told.append("more")
+    told[0] = "other"
+    told.reverse()
 
 
 class KeptTest(unittest.TestCase):
@@ -126,11 +160,20 @@ class KeptTest(unittest.TestCase):
             told = told_by(function, given)
             if isinstance(told, list):
                 before = list(told)
-                told.append("more")
-                told[0] = "other"
-                told.reverse()
+                spoil(told)
                 self.assertEqual(function(*given), before)
                 self.assertIsNot(function(*given), function(*given))
+
+    def test_a_list_in_a_told_tuple_is_the_askers_own(self):
+        seen = set()
+        for function, given in calls():
+            told = told_by(function, given)
+            if isinstance(told, tuple) and len(told) == 2 and isinstance(told[1], list):
+                before = copy.deepcopy(told)
+                spoil(told[1])
+                self.assertEqual(function(*given), before)
+                seen.add((function.__name__, bool(before[1])))
+        self.assertEqual(seen, {("judged_each", True), ("judged_each", False), ("compared", True)})
 
     def test_empty_lists_are_the_askers_own(self):
         for base in BASES:
