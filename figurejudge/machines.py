@@ -3,6 +3,9 @@
 from figurejudge.figures import all_letters, letters_of
 from figurejudge.rows import room_after
 
+# The bound where none is told: far beyond all that is asked for.
+FAR_BEYOND = 1000000
+
 
 def says_yes(base, machine, numbers):
     """Whether a machine says yes of a tuple of numbers, one for each of its names."""

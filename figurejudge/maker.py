@@ -4,7 +4,7 @@ from figurejudge.atoms import atom_of
 from figurejudge.errors import TooMany
 from figurejudge.hidden import each_of, some_of
 from figurejudge.joined import both_of, either_of, turned_no
-from figurejudge.sayings import inner_parts, parts_in_order
+from figurejudge.sayings import parts_in_order, told_of_parts
 from figurejudge.thin import thinned
 
 
@@ -25,16 +25,11 @@ def put_together(world, saying, inner, most):
     return atom_of(world, saying, most)
 
 
-def inner_machines(machines, place, saying):
-    """The machines of the parts that stand straight in the saying at a place."""
-    return [machines[place + (number,)] for number in range(len(inner_parts(saying)))]
-
-
 def machines_of(world, saying, most=300):
     """A dict of the thinned machines of a saying and all its parts, by their places."""
     machines = {}
     for place, part in parts_in_order(saying):
-        made = put_together(world, part, inner_machines(machines, place, part), most)
+        made = put_together(world, part, told_of_parts(machines, place, part), most)
         if made is None:
             raise TooMany(place)
         machines[place] = thinned(made)

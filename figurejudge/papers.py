@@ -3,7 +3,8 @@
 from figurejudge.hidden import sets_growth
 from figurejudge.joined import both_growth, either_growth, turned_no
 from figurejudge.machines import grown_from
-from figurejudge.maker import inner_machines, machines_of
+from figurejudge.maker import machines_of
+from figurejudge.sayings import told_of_parts
 
 
 def no_growth(growth):
@@ -40,7 +41,7 @@ def rows_growth(base, saying, machines):
     """How the tuples of a saying's paper grow: first, onward, is_yes; yes is where the room's is what the word says."""
     yes = machines[()][1]
     moves = machines[()][2]
-    parts = parts_growth(base, saying, inner_machines(machines, (), saying))
+    parts = parts_growth(base, saying, told_of_parts(machines, (), saying))
     onward = lambda row, letter: (moves[row[0]][letter],) + parts[1](row[1:], letter)
     return ((0,) + parts[0], onward, lambda row: yes[row[0]] == parts[2](row[1:]))
 

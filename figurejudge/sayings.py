@@ -42,6 +42,11 @@ def parts_in_order(saying):
     return list(reversed(found))
 
 
+def told_of_parts(told, place, saying):
+    """What is told, in a dict by places, of each of the parts that stand straight in the saying at a place."""
+    return [told[place + (number,)] for number in range(len(inner_parts(saying)))]
+
+
 def names_over(saying, inner):
     """The free names of a saying, rising, where inner holds those of each of its parts."""
     names = term_names(saying)
@@ -56,9 +61,7 @@ def names_by_place(saying):
     """A dict of the free names of each part by its place."""
     names = {}
     for place, part in parts_in_order(saying):
-        many = len(inner_parts(part))
-        inner = [names[place + (number,)] for number in range(many)]
-        names[place] = names_over(part, inner)
+        names[place] = names_over(part, told_of_parts(names, place, part))
     return names
 
 

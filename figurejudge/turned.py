@@ -1,13 +1,10 @@
 """Machines turned about, which read from the greatest place down."""
 
 from figurejudge.figures import letters_of
-from figurejudge.machines import grown_from
+from figurejudge.machines import FAR_BEYOND, grown_from
 from figurejudge.order import yes_rooms
 from figurejudge.rows import room_after
 from figurejudge.thin import rooms_into, thinned
-
-# No bound on sets is told for a machine that is turned about, only how many come up at the most when it is asked.
-FAR_BEYOND = 1000000
 
 
 def all_before(before, rooms):

@@ -5,6 +5,7 @@ import random
 import unittest
 
 from figurejudge.atoms import atom_of
+from figurejudge.desk import Desk
 from figurejudge.errors import JudgeError
 from figurejudge.figures import all_letters, figures_of, is_ahead, letters_of, number_of, numbers_of
 from figurejudge.hidden import each_of, sets_of, some_of
@@ -15,10 +16,13 @@ from figurejudge.maker import made_of
 from figurejudge.order import first_of, first_tuples, how_many
 from figurejudge.papers import paper_holds, paper_of
 from figurejudge.plain import holds_plainly, worth_of
+from figurejudge.reading import read_saying, read_world
 from figurejudge.rows import look_world, sign_at
 from figurejudge.same import compared
 from figurejudge.sayings import free_names, look_saying, part_at
+from figurejudge.shown import show_saying, show_term, show_world
 from figurejudge.thin import parting_of, thinned
+from figurejudge.toprows import row_of, sign_down
 from figurejudge.turned import says_down, turned_about
 from samples import BASES, random_machine, says, term, world_of
 
@@ -44,6 +48,7 @@ def calls():
         yield from machine_calls(base)
         yield from maker_calls(base)
         yield from judge_calls(base)
+        yield from text_calls(base)
 
 
 def first_calls(base):
@@ -118,6 +123,26 @@ def judge_calls(base):
     yield says_down, (base, turned_about(machine()), (12, 7))
 
 
+def desk_says(text, row):
+    return Desk(text).say(row)
+
+
+def text_calls(base):
+    down = lambda: ((0, 1, 2), ((0, 1) + (2,) * (base - 2), (2, 1) + (0,) * (base - 2), (1,) * base))
+    yield sign_down, (base, down(), 1234)
+    yield row_of, (base, down())
+    yield show_term, (term(3, "m", "n"),)
+    yield show_saying, (nested(),)
+    yield show_world, (world_of(base),)
+    for text in (show_saying(nested()), "n = ", "((("):
+        yield read_saying, (text,)
+    for text in (show_world(world_of(base)), f"base {base}", "base 5", show_world(broken_world(base))):
+        yield read_world, (text,)
+    for row in ("judge each m some n m < n", "where 17 < n", "first 5 m < n", "alike n < 5 | n < 6", "alike n < 1 | n = 0",
+                "judge n = 0", "where ZZ[n] = 0", "where", "first 9 n < n"):
+        yield desk_says, (show_world(world_of(base)), row)
+
+
 def told_by(function, given):
     """What a call tells, or the refusal with its fields."""
     try:
@@ -174,6 +199,26 @@ class KeptTest(unittest.TestCase):
                 self.assertEqual(function(*given), before)
                 seen.add((function.__name__, bool(before[1])))
         self.assertEqual(seen, {("judged_each", True), ("judged_each", False), ("compared", True)})
+
+    def test_a_told_world_is_the_askers_own(self):
+        for base in BASES:
+            text = show_world(world_of(base))
+            told = read_world(text)
+            told[1].clear()
+            told[1]["Q"] = "other"
+            self.assertEqual(read_world(text), world_of(base))
+            self.assertIsNot(read_world(text)[1], read_world(text)[1])
+            read_world(f"base {base}")[1]["Q"] = "other"
+            self.assertEqual(read_world(f"base {base}"), (base, {}))
+
+    def test_a_told_world_changed_changes_no_desk(self):
+        for base in BASES:
+            text = show_world(world_of(base))
+            desk = Desk(text)
+            before = desk.say("judge each n F[n] = 7")
+            read_world(text)[1].clear()
+            Desk(text).world[1].clear()
+            self.assertEqual(desk.say("judge each n F[n] = 7"), before)
 
     def test_empty_lists_are_the_askers_own(self):
         for base in BASES:
